@@ -1,0 +1,72 @@
+"""The interface at the end of the document: where its names are defined, and with which parameters."""
+
+import importlib
+import inspect
+import unittest
+
+LETTERS = "abcdefghijklmnopqrstuvwxyz"
+
+# For each module: each class with the parameters that make it and with its methods and their parameters.
+CLASSES = {
+    "forms": {
+        "Form": (
+            f"(letters={LETTERS!r}, chains=1)",
+            {"__call__": "(name)", "ordered": "(names)", "__mul__": None, "__rmul__": None, "__floordiv__": None,
+             "__eq__": None, "letters": None, "chains": None},
+        ),
+    },
+    "looks": {
+        "Look": ("()", {}),
+        "Piece": (
+            "(folder, form, mark, names, ended)",
+            {"folder": None, "form": None, "mark": None, "names": None, "ended": None, "says": "(place)",
+             "standing": "()", "__contains__": None, "__eq__": None},
+        ),
+        "Ask": (
+            "(answers)",
+            {"answers": None, "says": "(place)", "standing": "()", "__contains__": None, "__eq__": None},
+        ),
+    },
+    "errors": {
+        "BetweenError": (None, {}),
+        "InvalidName": ("(value=None)", {}),
+        "InvalidPlace": ("(value=None)", {}),
+        "InvalidForm": ("(value=None)", {}),
+        "InvalidLook": ("(value=None)", {}),
+        "InvalidLog": ("(value=None)", {}),
+        "InvalidRules": ("(value=None)", {}),
+        "InvalidDemand": ("(value=None)", {}),
+        "InvalidStory": ("(value=None)", {}),
+        "InvalidChange": ("(value=None)", {}),
+        "InvalidNumber": ("(value=None)", {}),
+        "InvalidList": ("(value=None)", {}),
+        "InvalidText": ("(line=None)", {}),
+        "Missing": ("(place=None)", {}),
+        "Occupied": ("(place=None)", {}),
+        "Barred": ("(one=None, other=None)", {}),
+        "Failed": ("(step=None, why=None)", {}),
+        "Closed": (None, {}),
+    },
+}
+
+
+def parameters(method):
+    """The parameters without the object itself."""
+    signature = inspect.signature(method)
+    return str(signature.replace(parameters=list(signature.parameters.values())[1:]))
+
+
+class InterfaceTest(unittest.TestCase):
+    def test_classes(self):
+        for module_name, classes in CLASSES.items():
+            module = importlib.import_module("betweenlists." + module_name)
+            for name, (made_with, methods) in classes.items():
+                made = getattr(module, name)
+                self.assertIsInstance(made, type)
+                self.assertEqual(made.__module__, "betweenlists." + module_name)
+                if made_with is not None:
+                    self.assertEqual(parameters(made.__init__), made_with)
+                for method, wanted in methods.items():
+                    self.assertIn(method, vars(made))
+                    if wanted is not None:
+                        self.assertEqual(parameters(vars(made)[method]), wanted)
