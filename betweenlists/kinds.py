@@ -24,3 +24,17 @@ def is_place(value):
 def is_name_list(value):
     """Whether the value is a list of names, perhaps with some of them twice."""
     return isinstance(value, list) and all([is_name(item) for item in value])
+
+
+def is_place_list(value):
+    """Whether the value is a list of places, none of them twice."""
+    if not (isinstance(value, list) and all([is_place(item) for item in value])):
+        return False
+    return len(set(value)) == len(value)
+
+
+def is_index_list(value, many):
+    """Whether the value is a list of different indexes of so many items, in ascending order."""
+    if not (isinstance(value, list) and all([is_whole(item) and 0 <= item < many for item in value])):
+        return False
+    return all([low < high for low, high in zip(value, value[1:])])

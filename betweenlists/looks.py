@@ -1,6 +1,7 @@
 """Looks: what somebody saw at one moment, as a piece of a list or as answers about single places."""
 
-from betweenlists.errors import InvalidLook, InvalidPlace
+from betweenlists.checks import check_place
+from betweenlists.errors import InvalidLook
 from betweenlists.forms import Form, key_in
 from betweenlists.kinds import is_name, is_name_list, is_place
 
@@ -82,8 +83,7 @@ class Piece(Look):
 
     def says(self, place):
         """Whether the place stands, or None if the piece does not cover it."""
-        if not is_place(place):
-            raise InvalidPlace(place)
+        check_place(place)
         if place not in self:
             return None
         return place[1] in self._names
@@ -120,8 +120,7 @@ class Ask(Look):
 
     def says(self, place):
         """Whether the place stands, or None if nobody asked for it."""
-        if not is_place(place):
-            raise InvalidPlace(place)
+        check_place(place)
         return self._stands.get(place)
 
     def standing(self):

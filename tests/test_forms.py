@@ -2,10 +2,10 @@
 
 import itertools
 import random
-import unittest
 
 from betweenlists.errors import InvalidForm, InvalidList, InvalidName, InvalidNumber
 from betweenlists.forms import Form
+from tests.cases import Case
 from tests.values import (
     ALPHABET, BACKWARDS, all_names, every_value, names, no_names, no_whole_numbers, odd_strings, plain_odd_values,
     whole_numbers,
@@ -21,23 +21,10 @@ def expected_key(letters, chains, name):
     return (sum(ranks) % chains, tuple(ranks))
 
 
-class FormTest(unittest.TestCase):
-    def check_raises(self, error, value, call, *args, **named):
-        """The call raises the error with this very value."""
-        with self.assertRaises(error) as held:
-            call(*args, **named)
-        self.assertIs(type(held.exception), error)
-        self.assertIs(held.exception.value, value)
-
+class FormTest(Case):
     def check_no_form(self, letters, chains):
         for call in (lambda: Form(letters, chains), lambda: Form(chains=chains, letters=letters)):
-            with self.assertRaises(InvalidForm) as held:
-                call()
-            value = held.exception.value
-            self.assertIs(type(value), tuple)
-            self.assertEqual(len(value), 2)
-            self.assertIs(value[0], letters)
-            self.assertIs(value[1], chains)
+            self.check_raises_with(InvalidForm, (letters, chains), call)
 
     def check_form(self, form, letters, chains):
         self.assertIs(type(form), Form)
@@ -293,7 +280,7 @@ class ValuesTest(FormTest):
         self.assertTrue(all(type(value) is str for value in odd_strings()))
 
 
-class ExampleTest(unittest.TestCase):
+class ExampleTest(Case):
     def test_end_of_section_3(self):
         got = [
             Form(chains=2)("bb"),

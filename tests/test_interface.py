@@ -27,6 +27,28 @@ CLASSES = {
             {"answers": None, "says": "(place)", "standing": "()", "__contains__": None, "__eq__": None},
         ),
     },
+    "logs": {
+        "Log": (
+            "(moments=None)",
+            {"__len__": None, "__getitem__": None, "__setitem__": None, "__iadd__": None, "__add__": None,
+             "__eq__": None, "copy": "()", "says": "(k, place)", "clash": "()", "places": "()", "also": "(k, look)",
+             "inserted": "(k, looks)", "joined": "(gap)", "part": "(moments)", "turned": "()"},
+        ),
+    },
+    "rules": {
+        "Rules": (
+            "(*, across=True, barred=None)",
+            {"across": None, "barred": None, "__call__": "(one, other)", "__eq__": None, "__and__": None,
+             "__or__": None, "within": "(other)", "turned": "()"},
+        ),
+    },
+    "stories": {
+        "Story": (
+            "(first, changes=None)",
+            {"first": None, "__len__": None, "__getitem__": None, "__iadd__": None, "__eq__": None,
+             "__contains__": None, "at": "(k)", "fits": "(log)", "allowed": "(rules)", "turned": "(moments)"},
+        ),
+    },
     "errors": {
         "BetweenError": (None, {}),
         "InvalidName": ("(value=None)", {}),
@@ -47,6 +69,11 @@ CLASSES = {
         "Failed": ("(step=None, why=None)", {}),
         "Closed": (None, {}),
     },
+}
+
+# For each module: each function with its parameters.
+FUNCTIONS = {
+    "demands": {"demands": "(log)", "can_be_one": "(one, other, *, rules=None)"},
 }
 
 
@@ -70,3 +97,12 @@ class InterfaceTest(unittest.TestCase):
                     self.assertIn(method, vars(made))
                     if wanted is not None:
                         self.assertEqual(parameters(vars(made)[method]), wanted)
+
+    def test_functions(self):
+        for module_name, functions in FUNCTIONS.items():
+            module = importlib.import_module("betweenlists." + module_name)
+            for name, wanted in functions.items():
+                made = getattr(module, name)
+                self.assertTrue(inspect.isfunction(made))
+                self.assertEqual(made.__module__, "betweenlists." + module_name)
+                self.assertEqual(str(inspect.signature(made)), wanted)

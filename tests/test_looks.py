@@ -2,11 +2,11 @@
 
 import itertools
 import random
-import unittest
 
 from betweenlists.errors import InvalidLook, InvalidPlace
 from betweenlists.forms import Form
 from betweenlists.looks import Ask, Look, Piece
+from tests.cases import Case
 from tests.values import (
     ALPHABET, BACKWARDS, all_names, every_value, lists, no_names, no_places, objects, plain_odd_values, places,
 )
@@ -32,24 +32,14 @@ def expected_says(arguments, place):
     return place[1] in names
 
 
-class LooksTest(unittest.TestCase):
+class LooksTest(Case):
     def check_no_piece(self, *arguments):
         for call in (lambda: Piece(*arguments), lambda: Piece(**dict(zip(FIELDS, arguments)))):
-            with self.assertRaises(InvalidLook) as held:
-                call()
-            self.assertIs(type(held.exception), InvalidLook)
-            value = held.exception.value
-            self.assertIs(type(value), tuple)
-            self.assertEqual(len(value), 5)
-            for got, given in zip(value, arguments):
-                self.assertIs(got, given)
+            self.check_raises_with(InvalidLook, arguments, call)
 
     def check_no_ask(self, answers):
         for call in (lambda: Ask(answers), lambda: Ask(answers=answers)):
-            with self.assertRaises(InvalidLook) as held:
-                call()
-            self.assertIs(type(held.exception), InvalidLook)
-            self.assertIs(held.exception.value, answers)
+            self.check_raises(InvalidLook, answers, call)
 
     def check_says(self, look, place, wanted):
         self.assertIs(look.says(place), wanted)
@@ -60,10 +50,7 @@ class LooksTest(unittest.TestCase):
     def check_other_values(self, look):
         """Values that are no places: errors of says, and never in the look."""
         for value in no_places():
-            with self.assertRaises(InvalidPlace) as held:
-                look.says(value)
-            self.assertIs(type(held.exception), InvalidPlace)
-            self.assertIs(held.exception.value, value)
+            self.check_raises(InvalidPlace, value, look.says, value)
             self.assertIs(value in look, False)
 
 

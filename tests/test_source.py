@@ -34,6 +34,10 @@ DOUBLE = """
     ilshift irshift neg pos invert abs bool contains getitem setitem
 """.split()
 
+# What an operator may not call, and what it may change: itself only if it is one of these.
+MODIFYING = "append clear extend insert pop remove reverse setdefault update add discard sort".split()
+CHANGING = ["__setitem__", "__enter__", "__exit__", "__call__", "__init__"]
+
 UNUSED = "register mro elements open input law version_info with_traceback add_note".split()
 
 BARRED = (
@@ -56,6 +60,37 @@ def defined(tree):
         if isinstance(node, ast.Assign):
             names += [target.id for target in node.targets]
     return names
+
+
+def is_operator(node):
+    """Whether a method is an operator, or what counts as one: it must change nothing."""
+    double = node.name.startswith("__") and node.name not in CHANGING and not node.name.startswith("__i")
+    return double or any(ast.unparse(mark) == "property" for mark in node.decorator_list)
+
+
+def called_by(node):
+    """The names of the functions, methods and classes that are called in a function."""
+    calls = [call.func for call in ast.walk(node) if isinstance(call, ast.Call)]
+    return [func.id if isinstance(func, ast.Name) else func.attr for func in calls]
+
+
+def run_by_operators():
+    """The functions and methods that an operator may run, by the names in their calls."""
+    named = {}
+    for _, tree in trees():
+        for node in ast.walk(tree):
+            for item in getattr(node, "body", []) if isinstance(node, (ast.Module, ast.ClassDef)) else []:
+                if isinstance(item, ast.FunctionDef):
+                    name = node.name if item.name == "__init__" else item.name
+                    named.setdefault(name, []).append(item)
+    open_ones = [node for nodes in named.values() for node in nodes if is_operator(node)]
+    found = []
+    while open_ones:
+        node = open_ones.pop()
+        if node not in found:
+            found.append(node)
+            open_ones += [item for name in called_by(node) for item in named.get(name, [])]
+    return found
 
 
 class SourceTest(unittest.TestCase):
@@ -134,6 +169,56 @@ class SourceTest(unittest.TestCase):
             for node in ast.walk(tree):
                 if isinstance(node, ast.FunctionDef) and node.name.startswith("__"):
                     self.assertIn(node.name.strip("_"), DOUBLE, (path, node.lineno))
+
+    def test_operators_change_nothing(self):
+        found = run_by_operators()
+        self.assertGreater(len(found), 30)
+        for node in found:
+            parameters = [arg.arg for arg in node.args.args]
+            for item in ast.walk(node):
+                self.assertNotIsInstance(item, (ast.AugAssign, ast.Delete), node.name)
+                if isinstance(item, (ast.Attribute, ast.Subscript)) and isinstance(item.ctx, ast.Store):
+                    self.assertEqual(node.name, "__init__", (node.name, item.lineno))
+                if isinstance(item, ast.Call) and isinstance(item.func, ast.Attribute):
+                    self.assertNotIn(item.func.attr, MODIFYING, (node.name, item.lineno))
+                if isinstance(item, ast.Call) and isinstance(item.func, ast.Name):
+                    self.assertNotIn(item.func.id, parameters, (node.name, item.lineno))
+
+    def test_equality_and_length_assign_nothing(self):
+        for path, tree in trees():
+            for node in ast.walk(tree):
+                if isinstance(node, ast.FunctionDef) and node.name in ("__eq__", "__len__"):
+                    for item in ast.walk(node):
+                        self.assertNotIsInstance(item, (ast.Assign, ast.AugAssign), (path, node.lineno))
+                    last = node.body[-1]
+                    self.assertIsInstance(last, ast.Return)
+                    if node.name == "__len__":
+                        self.assertTrue(ast.unparse(last.value).startswith("len("), (path, node.lineno))
+
+    def test_items_without_iteration(self):
+        for path, tree in trees():
+            for node in ast.walk(tree):
+                if isinstance(node, ast.ClassDef):
+                    names = [item.name for item in node.body if isinstance(item, ast.FunctionDef)]
+                    self.assertEqual("__getitem__" in names, "__iter__" in names, (path, node.name))
+                    self.assertNotIn("keys", names)
+
+    def test_calls_over_lists(self):
+        # Where classes have operators, these take a list and not a generator; lists are not sorted in place.
+        for path, tree in trees():
+            for node in ast.walk(tree):
+                self.assertNotIsInstance(node, (ast.GeneratorExp, ast.Yield, ast.YieldFrom), path)
+                if isinstance(node, ast.Call) and isinstance(node.func, ast.Attribute):
+                    self.assertNotEqual(node.func.attr, "sort", (path, node.lineno))
+
+    def test_no_name_is_a_method_and_an_attribute(self):
+        nodes = [node for _, tree in trees() for node in ast.walk(tree)]
+        methods = {node.name for node in nodes if isinstance(node, ast.FunctionDef) and not node.decorator_list}
+        attributes = {node.name for node in nodes if isinstance(node, ast.FunctionDef) and node.decorator_list}
+        for node in nodes:
+            if isinstance(node, ast.Attribute) and isinstance(node.ctx, ast.Store):
+                attributes.add(node.attr)
+        self.assertEqual(methods & attributes, set())
 
     def test_statements_and_values(self):
         for path, tree in trees():

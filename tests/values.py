@@ -2,7 +2,10 @@
 
 from betweenlists.errors import BetweenError, Closed, Failed, InvalidName
 from betweenlists.forms import Form
+from betweenlists.logs import Log
 from betweenlists.looks import Ask, Piece
+from betweenlists.rules import Rules
+from betweenlists.stories import Story
 
 ALPHABET = "abcdefghijklmnopqrstuvwxyz"
 BACKWARDS = ALPHABET[::-1]
@@ -35,6 +38,8 @@ def objects():
     return [
         Form(), Form(BACKWARDS, 7), Piece("a", Form(), None, ["b"], True), Piece("a", Form(), "b", ["c"], False),
         Ask([]), Ask([(("a", "b"), True)]), BetweenError(), InvalidName("x"), Closed(), Failed(1, InvalidName()),
+        Log(), Log([[], [Ask([(("a", "b"), True)])]]), Rules(), Rules(across=False, barred=[(("a", "a"), ("a", "b"))]),
+        Story([]), Story([("a", "b")], [(0, "take", ("a", "b"))]),
     ]
 
 
@@ -86,6 +91,20 @@ def no_places():
 def no_whole_numbers():
     values = plain_odd_values() + odd_strings() + lists() + objects() + names() + places()
     return values + ["1", "12", [1], (1,)]
+
+
+def no_lists():
+    return [value for value in every_value() if not isinstance(value, list)]
+
+
+def not_of(*kinds):
+    """Some values of every kind but these."""
+    return [value for value in every_value() if not isinstance(value, kinds)]
+
+
+def indexes_outside(many):
+    """Values that are no indexes of so many items: numbers just outside and far out, and other kinds."""
+    return [many, many + 1, many + 2, -1, -2, -many - 1, 10 ** 39, -(10 ** 39)] + no_whole_numbers()
 
 
 def all_names(letters, longest):
