@@ -6,14 +6,14 @@ from betweenlists.logs import check_log
 from betweenlists.rules import rules_from
 
 
-def _known(log, place):
+def known_of(log, place):
     """The moments at which the place is known, in order, each with whether it stands."""
     said = [(k, log.says(k, place)) for k in range(len(log))]
     return [(k, stands) for k, stands in said if stands is not None]
 
 
-def _demands_of(log, place):
-    known = _known(log, place)
+def demands_of(place, known):
+    """The demands of a place that is known at these moments, given in order with whether it stands."""
     return [
         (place, begin, end, "go" if before else "come")
         for (begin, before), (end, after) in zip(known, known[1:])
@@ -27,10 +27,11 @@ def demands(log):
     if log.clash() is not None:
         return None
     # A place that no look says stands is never known with different answers.
-    return [demand for place in log.places() for demand in _demands_of(log, place)]
+    return [demand for place in log.places() for demand in demands_of(place, known_of(log, place))]
 
 
-def _is_demand(value):
+def is_demand(value):
+    """Whether the value is a tuple as demands are, be it of whatever log."""
     if not (isinstance(value, tuple) and len(value) == 4):
         return False
     place, begin, end, way = value
@@ -40,13 +41,18 @@ def _is_demand(value):
 
 
 def _check_demand(value):
-    if not _is_demand(value):
+    if not is_demand(value):
         raise InvalidDemand(value)
 
 
 def _windows_meet(one, other):
     """Whether the windows of two demands have a gap in common."""
     return max(one[1], other[1]) < min(one[2], other[2])
+
+
+def one_does_both(gone, come, rules):
+    """Whether one renaming can be what a going and a coming ask for."""
+    return _windows_meet(gone, come) and rules(gone[0], come[0])
 
 
 def can_be_one(one, other, *, rules=None):
@@ -57,4 +63,4 @@ def can_be_one(one, other, *, rules=None):
     if one[3] == other[3]:
         return False
     gone, come = (one, other) if one[3] == "go" else (other, one)
-    return _windows_meet(one, other) and given(gone[0], come[0])
+    return one_does_both(gone, come, given)

@@ -12,6 +12,12 @@ def check_log(value):
         raise InvalidLog(value)
 
 
+def check_clear_log(value):
+    """Raises InvalidLog unless the value is a log that does not clash."""
+    if not (isinstance(value, Log) and value.clash() is None):
+        raise InvalidLog(value)
+
+
 def _are_looks(value):
     return isinstance(value, list) and all([isinstance(item, Look) for item in value])
 

@@ -74,6 +74,18 @@ CLASSES = {
 # For each module: each function with its parameters.
 FUNCTIONS = {
     "demands": {"demands": "(log)", "can_be_one": "(one, other, *, rules=None)"},
+    "fewest": {
+        "fewest": "(log, *, rules=None)",
+        "story_of": "(log, *, rules=None)",
+        "apart": "(log, *, rules=None)",
+        "is_apart": "(log, claim, *, rules=None)",
+    },
+    "gaps": {"busy": "(log)", "disjoint": "(log)", "story_in": "(log, gaps, *, rules=None)"},
+    "sure": {
+        "stood": "(log, k, place, *, spare=0, rules=None)",
+        "course": "(log, place, *, spare=0, rules=None)",
+        "standing": "(log, k, *, spare=0, rules=None)",
+    },
 }
 
 
