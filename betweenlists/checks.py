@@ -1,7 +1,13 @@
 """Checks of arguments that several modules share: they raise the error, or do nothing."""
 
-from betweenlists.errors import InvalidNumber, InvalidPlace
-from betweenlists.kinds import is_place, is_whole
+from betweenlists.errors import InvalidName, InvalidNumber, InvalidPlace
+from betweenlists.kinds import is_name, is_place, is_whole
+
+
+def check_name(value):
+    """Raises InvalidName unless the value is a name."""
+    if not is_name(value):
+        raise InvalidName(value)
 
 
 def check_place(value):

@@ -1,7 +1,8 @@
 """Forms: the orders in which folders list names."""
 
-from betweenlists.errors import InvalidForm, InvalidList, InvalidName, InvalidNumber
-from betweenlists.kinds import LETTERS, is_name, is_name_list, is_whole
+from betweenlists.checks import check_least, check_name
+from betweenlists.errors import InvalidForm, InvalidList
+from betweenlists.kinds import LETTERS, is_name_list, is_whole
 
 MOST_CHAINS = 1000
 
@@ -21,11 +22,6 @@ def _are_letters(value):
 
 def _are_chains(value):
     return is_whole(value) and 1 <= value <= MOST_CHAINS
-
-
-def _check_factor(factor):
-    if not (is_whole(factor) and factor >= 1):
-        raise InvalidNumber(factor)
 
 
 class Form:
@@ -48,8 +44,7 @@ class Form:
         return self._chains
 
     def __call__(self, name):
-        if not is_name(name):
-            raise InvalidName(name)
+        check_name(name)
         return key_in(self, name)
 
     def ordered(self, names):
@@ -59,14 +54,14 @@ class Form:
         return sorted(names, key=lambda name: key_in(self, name))
 
     def __mul__(self, other):
-        _check_factor(other)
+        check_least(other, 1)
         return Form(self._letters, self._chains * other)
 
     def __rmul__(self, other):
         return self * other
 
     def __floordiv__(self, other):
-        _check_factor(other)
+        check_least(other, 1)
         return Form(self._letters, max(1, self._chains // other))
 
     def __eq__(self, other):

@@ -6,7 +6,7 @@ from betweenlists.fewest import story_of
 from betweenlists.kinds import is_index_list
 from betweenlists.logs import check_log
 from betweenlists.rules import rules_from
-from betweenlists.stories import Story
+from betweenlists.steps import moved
 
 
 def disjoint(log):
@@ -46,7 +46,4 @@ def story_in(log, gaps, *, rules=None):
         raise InvalidList(gaps)
     given = rules_from(rules)
     story = story_of(_joined_but(log, gaps), rules=given)
-    if story is None:
-        return None
-    changes = [story[k] for k in range(len(story))]
-    return Story(story.first, [(gaps[change[0]],) + change[1:] for change in changes])
+    return None if story is None else moved(story, gaps)

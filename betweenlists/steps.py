@@ -53,3 +53,9 @@ def story_from(log, steps):
     """
     rows = [row for step in steps for row in step]
     return Story(_first_of(log, rows), sorted([_change_of(step) for step in steps]))
+
+
+def moved(story, gaps):
+    """The story with each change in the gap that the list has in the place of its own gap."""
+    changes = [story[k] for k in range(len(story))]
+    return Story(story.first, [(gaps[change[0]],) + change[1:] for change in changes])

@@ -8,7 +8,7 @@ from betweenlists.logs import check_log
 from betweenlists.rules import rules_from
 
 
-def _may_come(change, gap, standing):
+def may_come(change, gap, standing):
     """Whether this is a change that is possible in this gap or a later one, if these places stand."""
     return is_change(change) and change[0] >= gap and is_possible(change, standing)
 
@@ -20,7 +20,7 @@ def _standing_behind(first, changes):
     standing = {place: True for place in first}
     gap = 0
     for change in changes:
-        if not _may_come(change, gap, standing):
+        if not may_come(change, gap, standing):
             return None
         carry_out(change, standing)
         gap = change[0]
@@ -61,7 +61,7 @@ class Story:
 
     def __iadd__(self, other):
         gap = self._changes[-1][0] if self._changes else 0
-        if not _may_come(other, gap, self._last):
+        if not may_come(other, gap, self._last):
             raise InvalidChange(other)
         carry_out(other, self._last)
         self._changes.append(other)

@@ -111,3 +111,23 @@ class Search:
         can_stand = stands is not None and stands <= most
         can_miss = does_not is not None and does_not <= most
         return {(True, False): True, (False, True): False, (True, True): None}[(can_stand, can_miss)]
+
+    def stories(self):
+        """Each story with the fewest changes, as its list of changes."""
+        if not len(self.log):
+            return [[]]
+        last = len(self.log) - 1
+        rest = [self.spread(self.after[gap + 1], self.back) for gap in range(last)] + [self.after[last]]
+        open_ones = [(0, one, []) for one in self.right[0] if rest[0].get(one) == self.fewest()]
+        found = []
+        while open_ones:
+            gap, one, made = open_ones.pop()
+            if gap == last:
+                found.append(made)
+                continue
+            if one in self.right[gap + 1] and rest[gap + 1].get(one) == rest[gap][one]:
+                open_ones.append((gap + 1, one, made))
+            for change, other in self.changes(one):
+                if rest[gap].get(other) == rest[gap][one] - 1:
+                    open_ones.append((gap, other, made + [(gap,) + change]))
+        return found

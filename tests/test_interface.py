@@ -49,6 +49,20 @@ CLASSES = {
              "__contains__": None, "at": "(k)", "fits": "(log)", "allowed": "(rules)", "turned": "(moments)"},
         ),
     },
+    "disks": {
+        "Disk": (
+            "(first=None, *, form=None, rules=None)",
+            {"add": "(place)", "take": "(place)", "rename": "(one, other)", "make": "(changes)", "back": "()",
+             "__getitem__": None, "__setitem__": None, "rules": None, "obey": "(rules)", "__contains__": None,
+             "__len__": None, "standing": "()", "ask": "(places)", "log": None, "made": None, "story": "()",
+             "reader": "(folder, *, most=1, mark=None, steady=False)", "whole": "(folder, *, most=1)", "copy": "()"},
+        ),
+        "Reader": (
+            None,
+            {"mark": None, "told": None, "ended": None, "read": "()", "close": "()", "__enter__": "()",
+             "__exit__": "(kind, value, trace)"},
+        ),
+    },
     "errors": {
         "BetweenError": (None, {}),
         "InvalidName": ("(value=None)", {}),
@@ -85,6 +99,18 @@ FUNCTIONS = {
         "stood": "(log, k, place, *, spare=0, rules=None)",
         "course": "(log, place, *, spare=0, rules=None)",
         "standing": "(log, k, *, spare=0, rules=None)",
+    },
+    "renamings": {
+        "renamed": "(log, gap, one, other, *, spare=0, rules=None)",
+        "always_renamed": "(log, one, other, *, rules=None)",
+        "sure_renamings": "(log, *, rules=None)",
+    },
+    "cores": {"core": "(log, *, rules=None)", "is_core": "(log, claim, *, rules=None)"},
+    "texts": {
+        "write_log": "(log)",
+        "read_log": "(text)",
+        "write_story": "(story)",
+        "read_story": "(text)",
     },
 }
 

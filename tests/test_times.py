@@ -1,15 +1,20 @@
-"""Tests of point [3]: the fewest changes, few gaps and what is sure, for logs as large as the document allows."""
+"""Tests of point [3]: what the package computes from logs, disks and texts as large as the document allows."""
 
 import time
 
+from betweenlists.cores import core, is_core
 from betweenlists.demands import demands
+from betweenlists.disks import Disk
 from betweenlists.fewest import apart, fewest, is_apart, story_of
 from betweenlists.forms import Form
 from betweenlists.gaps import busy, disjoint, story_in
 from betweenlists.logs import Log
 from betweenlists.looks import Ask, Piece
+from betweenlists.renamings import always_renamed, renamed, sure_renamings
 from betweenlists.rules import Rules
+from betweenlists.stories import Story
 from betweenlists.sure import course, standing, stood
+from betweenlists.texts import read_log, read_story, write_log, write_story
 from tests.cases import Case
 from tests.test_limits import FOLDERS, FORM, PLACES, large_log
 from tests.values import ALPHABET
@@ -96,3 +101,81 @@ class TimesTest(Case):
                 self.assertLessEqual(set(told), set(got))
             row = self.within(20, course, log, PLACES[0], spare=spare, rules=rules)
             self.assertIs(self.within(20, stood, log, 1, PLACES[0], spare=spare, rules=rules), row[1])
+
+    def test_renamings(self):
+        log = middling_log()
+        gone, come = [[row for row in demands(log) if row[3] == way] for way in ("go", "come")]
+        for rules, spare in ((None, 0), (RULES, 2), (NEAR, 10 ** 39)):
+            for one, other in zip(gone[::6], come[::4]):
+                story = self.within(20, renamed, log, one[1], one[0], other[0], spare=spare, rules=rules)
+                if story is not None:
+                    self.assertIs(story.fits(log) and story.allowed(rules), True)
+                self.within(20, always_renamed, log, one[0], other[0], rules=rules)
+            for one, other in self.within(20, sure_renamings, log, rules=rules):
+                self.assertIs(always_renamed(log, one, other, rules=rules), True)
+
+    def test_many_sure_renamings(self):
+        # Each folder has one going and one coming, and nothing is renamed across folders.
+        places = [(letter, name) for letter in ALPHABET for name in ("one", "two")]
+        answers = [(place, place[1] == "one") for place in places]
+        looks = [Ask(answers[8 * k:8 * k + 8]) for k in range(7)]
+        last = [Ask([(place, not stands) for place, stands in look.answers]) for look in looks]
+        log = Log([looks[2 * k:2 * k + 2] for k in range(4)] + [[], [], [], []] + [last[2 * k:2 * k + 2] for k in range(4)])
+        self.assertEqual((len(log), len(demands(log))), (12, 52))
+        wanted = [((letter, "one"), (letter, "two")) for letter in ALPHABET]
+        self.assertEqual(self.within(20, sure_renamings, log, rules=Rules(across=False)), wanted)
+        self.assertEqual(self.within(20, sure_renamings, log), [])
+
+    def test_cores(self):
+        log = middling_log()
+        for rules in (None, RULES, NEAR):
+            moments = self.within(20, core, log, rules=rules)
+            self.assertIs(self.within(20, is_core, log, moments, rules=rules), True)
+            self.assertEqual(fewest(log.part(moments), rules=rules), fewest(log, rules=rules))
+            self.assertIs(self.within(20, is_core, log, list(range(12)), rules=rules), len(moments) == 12)
+
+    def large_disk(self):
+        """A disk with 200 places in 60 folders, to which 300 changes happen between 30 moments."""
+        folders = [one + other for one in "abcdefgh" for other in "abcdefgh"][:60]
+        places = [(folder, name * 8) for name in "abcd" for folder in folders][:200]
+        disk = Disk(places, rules=Rules(barred=BARRED))
+        for k, folder in enumerate(folders):
+            disk[folder] = Form(ALPHABET[::-1], k + 1)
+        reader = disk.reader("aa", most=1, steady=True)
+        for k in range(30):
+            if k and not reader.ended:
+                reader.read()
+            elif k % 2:
+                disk.ask(places[k:k + 20])
+            else:
+                disk.reader(folders[k], most=12).read()
+            disk.make([("rename", places[k], ("z", ALPHABET[k % 26] * (1 + k // 26)))])
+            disk.make([("take", place) for place in places[100 + 3 * k:103 + 3 * k]])
+            disk.make([("add", place) for place in places[100 + 3 * k:103 + 3 * k]])
+            for _ in range(3):
+                disk.back()
+        return disk
+
+    def test_disks(self):
+        disk = self.within(3, self.large_disk)
+        self.assertEqual((len(disk.log), disk.made), (30, 300))
+        copy = self.within(3, disk.copy)
+        self.assertIs(disk.story().fits(disk.log), True)
+        self.check_equal(copy.story(), disk.story())
+        self.assertLessEqual(self.within(3, fewest, disk.log, rules=disk.rules), disk.made)
+        self.assertEqual(len(self.within(3, copy.whole, "z")), 30)
+        there = copy.standing()
+        changes = [("take", place) for place in there] + [("add", place) for place in there[::-1]]
+        self.within(3, copy.make, changes)
+        self.assertEqual((copy.standing(), copy.made), (there, 300 + 2 * len(there)))
+
+    def test_texts(self):
+        log = large_log()
+        text = self.within(3, write_log, log)
+        self.check_equal(self.within(3, read_log, text), log)
+        start = 10 ** 39
+        changes = [(start + k // 2, "take" if k % 2 else "add", ("zzzzzzzz", "zzzzzzzz")) for k in range(399)]
+        story = Story(PLACES, changes)
+        text = self.within(3, write_story, story)
+        self.assertEqual(len(text.split("\n")), 400)
+        self.check_equal(self.within(3, read_story, text), story)

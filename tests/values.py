@@ -1,5 +1,6 @@
 """Values for the tests: some of every kind, so that each argument meets the wrong ones, too."""
 
+from betweenlists.disks import Disk
 from betweenlists.errors import BetweenError, Closed, Failed, InvalidName
 from betweenlists.forms import Form
 from betweenlists.logs import Log
@@ -39,7 +40,7 @@ def objects():
         Form(), Form(BACKWARDS, 7), Piece("a", Form(), None, ["b"], True), Piece("a", Form(), "b", ["c"], False),
         Ask([]), Ask([(("a", "b"), True)]), BetweenError(), InvalidName("x"), Closed(), Failed(1, InvalidName()),
         Log(), Log([[], [Ask([(("a", "b"), True)])]]), Rules(), Rules(across=False, barred=[(("a", "a"), ("a", "b"))]),
-        Story([]), Story([("a", "b")], [(0, "take", ("a", "b"))]),
+        Story([]), Story([("a", "b")], [(0, "take", ("a", "b"))]), Disk(), Disk([("a", "b")]), Disk().reader("a"),
     ]
 
 
