@@ -86,7 +86,7 @@ class MakingTest(DiskCase):
         self.check_equal(disk.rules, NEAR)
 
     def test_no_lists_of_places(self):
-        values = not_of(list) + [[X, X], [X, Y, X], [X, list(Y)], [X, "y"], [X, None], [X, ("a", "Y")], [[X]], (X,), {X}]
+        values = not_of(list) + [[X, X], [X, Y, X], [X, list(Y)], [X, "y"], [X, None], [X, ("a", "Y")], [[X]], (X,)]
         for value in values + [[value] for value in no_places()] + [[X, value] for value in no_places()]:
             if value is not None:
                 self.check_raises(InvalidList, value, Disk, value)
@@ -152,7 +152,8 @@ class ChangesTest(DiskCase):
 
     def test_order_of_the_errors(self):
         wrong = ["a", "x"]
-        for disk in (Disk([X, B]), Disk([X, B], rules=NEAR), Disk([X, B], rules=Rules(barred=[(Y, B), (X, B), (Y, Y)]))):
+        for rules in (None, NEAR, Rules(barred=[(Y, B), (X, B), (Y, Y)])):
+            disk = Disk([X, B], rules=rules)
             self.check_refused(disk, InvalidPlace, {"value": wrong}, disk.rename, wrong, "x")
             self.check_refused(disk, InvalidPlace, {"value": wrong}, disk.rename, wrong, X)
             self.check_refused(disk, InvalidPlace, {"value": wrong}, disk.rename, Y, wrong)
@@ -180,7 +181,8 @@ def no_changes():
         ("add",), ("add", X, Y), ("take",), ("take", X, Y), ("rename", X), ("rename", X, Y, Z), ("Add", X), ("", X),
         ("adds", X), ("move", X, Y), ("rename",), ["add", Y], ("add", list(Y)), ("add", "y"), ("add", ("a", "Y")),
         ("take", None), ("rename", X, list(Y)), ("rename", list(X), Y), ("rename", (X, Y)), (("add", Y),), (X, "add"),
-        (0, "add", Y), (0, "take", X), (0, "rename", X, Y), (True, Y), (None, Y), (["add"], Y), (("add",), Y), X, (X, Y),
+        (0, "add", Y), (0, "take", X), (0, "rename", X, Y), (True, Y), (None, Y), (["add"], Y), (("add",), Y), X,
+        (X, Y),
         ("add", "take", X), {"add": Y},
     ]
     for value in no_places():
@@ -268,7 +270,8 @@ class MakeTest(DiskCase):
         failed = 0
         for seed in range(200):
             chance.seed(seed)
-            rules = Rules(across=chance.random() < 0.5, barred=chance.sample(list(itertools.product(PLACES, PLACES)), 3))
+            pairs = list(itertools.product(PLACES, PLACES))
+            rules = Rules(across=chance.random() < 0.5, barred=chance.sample(pairs, 3))
             disk, single = Disk([X, B], rules=rules), Disk([X, B], rules=rules)
             changes = []
             for _ in range(chance.randint(1, 5)):

@@ -237,3 +237,34 @@ class SourceTest(unittest.TestCase):
                     marks = [ast.unparse(mark) for mark in node.decorator_list]
                     right = ["property", "staticmethod", "classmethod", node.name + ".setter"]
                     self.assertTrue(all(mark in right for mark in marks) and len(marks) < 2, (path, node.lineno))
+
+    def test_sets_are_not_kept(self):
+        for path, tree in trees():
+            held = []
+            for node in ast.walk(tree):
+                if isinstance(node, ast.Call) and isinstance(node.func, ast.Name) and node.func.id in ("sorted", "len"):
+                    held += node.args
+                if isinstance(node, ast.Compare):
+                    held += node.comparators
+            for node in ast.walk(tree):
+                call = isinstance(node, ast.Call) and ast.unparse(node.func) in ("set", "frozenset")
+                if call or isinstance(node, (ast.Set, ast.SetComp)):
+                    self.assertIn(node, held, (path, node.lineno))
+
+    def test_only_own_errors_are_caught(self):
+        own = defined(ast.parse((PACKAGE / "errors.py").read_text(encoding="ascii")))
+        for path, tree in trees():
+            for node in ast.walk(tree):
+                if isinstance(node, ast.ExceptHandler):
+                    caught = node.type.elts if isinstance(node.type, ast.Tuple) else [node.type]
+                    self.assertTrue(all(error.id in own for error in caught), (path, node.lineno))
+                if isinstance(node, ast.Raise):
+                    self.assertTrue(isinstance(node.exc, ast.Call) and node.exc.func.id in own + ["TypeError"], path)
+
+    def test_ends_of_blocks_only_keep_values(self):
+        for path, tree in trees():
+            for node in ast.walk(tree):
+                self.assertFalse(isinstance(node, ast.Try) and node.finalbody, path)
+                if isinstance(node, ast.FunctionDef) and node.name == "__exit__":
+                    for row in node.body:
+                        self.assertTrue(isinstance(row, ast.Assign) and isinstance(row.value, ast.Constant), path)

@@ -77,7 +77,9 @@ class WriteLogTest(TextCase):
     def test_words_of_lines_as_names(self):
         names = ["ask", "first", "in", "list", "nothing", "out"]
         self.check_log(
-            Log([[Piece("list", Form(), "add", names, False)], [Ask([(("ask", "list"), True), (("in", "out"), False)])]]),
+            Log([
+                [Piece("list", Form(), "add", names, False)], [Ask([(("ask", "list"), True), (("in", "out"), False)])],
+            ]),
             f"list list 1 {ALPHABET} add {' '.join(names)} +\nask ask/list=in in/out=out",
         )
         self.check_log(Log([[Piece("nothing", Form(), None, [], True)]]), f"list nothing 1 {ALPHABET} - .")
@@ -145,7 +147,8 @@ def wrong_moments():
         "ask && ask", "ask & & ask", "ask, ask", "-", ".", "x", "a/x=in", "look a/x=in", "asks", "asking a/x=in", "Ask",
         "lists a", "list", "list ", "list a", "list a 1", "list a 1 " + ALPHABET, f"list a 1 {ALPHABET} -", "first",
         f"list a 1 {ALPHABET} .", f"list a 1 {ALPHABET} x", "first a/x", "0 add a/x", "~", "ask ~", "ask -", "ask .",
-        "ask ", " ask", "ask  a/x=in", "ask a/x=in ", " ask a/x=in", "ask a/x=in  a/y=in", "ask a/x", "ask a/x=", "ask =in",
+        "ask ", " ask", "ask  a/x=in", "ask a/x=in ", " ask a/x=in", "ask a/x=in  a/y=in", "ask a/x",
+        "ask a/x=", "ask =in",
         "ask a/x=In", "ask a/x=in=in", "ask a/x=out=in", "ask a/x==in", "ask a/x =in", "ask a/x= in", "ask a /x=in",
         "ask a/ x=in", "ask a / x=in", "ask a/x=yes", "ask a/x=True", "ask a/x=1", "ask a/x=on", "ask a/x=inn",
         "ask a/X=in", "ask A/x=in", "ask /x=in", "ask a/=in", "ask a=in", "ask ax=in", "ask a//x=in", "ask a/x/y=in",
@@ -156,9 +159,12 @@ def wrong_moments():
         f"list a 1 {ALPHABET}  - x .", f"list a 1 {ALPHABET} -  x .", f"list a 1 {ALPHABET} - x  .",
         f"list A 1 {rest}", f"list - 1 {rest}", f"list abcdefghi 1 {rest}", f"list  1 {rest}", f"list a/b 1 {rest}",
         f"List a 1 {rest}", f"list 1 {rest}", f"list a {rest}", f"list a 1 - x .", f"list a {ALPHABET} 1 - x .",
-        f"{folder} 0 {rest}", f"{folder} 01 {rest}", f"{folder} 001 {rest}", f"{folder} +1 {rest}", f"{folder} -1 {rest}",
-        f"{folder} 1001 {rest}", f"{folder} 1.0 {rest}", f"{folder} 1_0 {rest}", f"{folder} one {rest}", f"{folder} q {rest}", f"{folder} 1q {rest}",
-        f"{folder} {GREAT} {rest}", f"{folder} {'1' * 5000} {rest}", f"{folder} 0{10 ** 3} {rest}", f"{folder} 0x1 {rest}",
+        f"{folder} 0 {rest}", f"{folder} 01 {rest}", f"{folder} 001 {rest}", f"{folder} +1 {rest}",
+        f"{folder} -1 {rest}",
+        f"{folder} 1001 {rest}", f"{folder} 1.0 {rest}", f"{folder} 1_0 {rest}", f"{folder} one {rest}",
+        f"{folder} q {rest}", f"{folder} 1q {rest}",
+        f"{folder} {GREAT} {rest}", f"{folder} {'1' * 5000} {rest}", f"{folder} 0{10 ** 3} {rest}",
+        f"{folder} 0x1 {rest}",
         f"{folder} {'0' * 40} {rest}", f"{folder} {'0' * 39}1 {rest}", f"{folder} 10000 {rest}", f"{folder} 1e2 {rest}",
         f"{folder} 1 {ALPHABET[:-1]} - x .", f"{folder} 1 {ALPHABET}a - x .", f"{folder} 1 {ALPHABET[:-1]}a - x .",
         f"{folder} 1 {ALPHABET.upper()} - x .", f"{folder} 1 {ALPHABET[:-1]}~ - x .", f"{folder} 1 - - x .",
@@ -238,7 +244,8 @@ def wrong_firsts():
     return [
         "", " ", "First", "first ", " first", "firsts", "first  a/x", "first a/x ", "first a/x  a/y", "a/x", "first a",
         "first a/X", "first a/", "first /x", "first a/x/y", "first a//x", "first a/x a/x", "first a/y a/x", "first ax",
-        "first b/a a/b", "first a/x a/y a/x", "first a/x,a/y", "first a/x=in", "first -", "first a/abcdefghi", "nothing",
+        "first b/a a/b", "first a/x a/y a/x", "first a/x,a/y", "first a/x=in", "first -", "first a/abcdefghi",
+        "nothing",
         "0 add a/x", "0 first", "first 0", "first first", "ask a/x=in", "first a /x",
     ]
 
@@ -250,10 +257,14 @@ def wrong_changes():
         "4 add b/x ", "4 Add b/x", "4 adds b/x", "4 move a/x b/x", "4 add b/x b/y", "4 take", "4 take a/x a/y",
         "4 rename", "4 rename a/x", "4 rename a/x b/x b/y", "4 rename a/x  b/x", "04 add b/x", "+4 add b/x",
         "-4 add b/x", "004 add b/x", "4.0 add b/x", "4_0 add b/x", "x add b/x", "four add b/x", " add b/x", "- add b/x",
-        f"0{GREAT} add b/x", "0x4 add b/x", f"{'0' * 39}4 add b/x", "00 add b/x", "-0 add b/x", "3 add b/x", "0 add b/x",
-        "4 add a/x", "4 add a/y", "5 take b/x", "5 take a/z", "4 rename b/x a/z", "4 rename a/x a/y", "4 rename a/x a/x",
-        "4 rename b/x b/x", "4 rename a/z a/x", "4 add b", "4 add b/", "4 add /x", "4 add B/x", "4 add b/x/y", "4 add bx",
-        "4 add b/abcdefghi", "4 take a/x=in", "4 add b/x,", "add 4 b/x", "4 b/x add", "b/x 4 add", "nothing", "ask a/x=in",
+        f"0{GREAT} add b/x", "0x4 add b/x", f"{'0' * 39}4 add b/x", "00 add b/x", "-0 add b/x", "3 add b/x",
+        "0 add b/x",
+        "4 add a/x", "4 add a/y", "5 take b/x", "5 take a/z", "4 rename b/x a/z", "4 rename a/x a/y",
+        "4 rename a/x a/x",
+        "4 rename b/x b/x", "4 rename a/z a/x", "4 add b", "4 add b/", "4 add /x", "4 add B/x", "4 add b/x/y",
+        "4 add bx",
+        "4 add b/abcdefghi", "4 take a/x=in", "4 add b/x,", "add 4 b/x", "4 b/x add", "b/x 4 add", "nothing",
+        "ask a/x=in",
         "4 rename a/x -> b/x", "4 rename a/x,b/x", "4:add b/x", "4 add - b/x",
         "4" * 5000 + " added b/x", "0" * 5000 + " add b/x", "4" * 5000 + "x add b/x",
     ]
@@ -281,7 +292,8 @@ class ReadStoryTest(TextCase):
 
     def test_a_wrong_last_line(self):
         text = "first a/x\n0 add a/y\n2 take a/x"
-        for line in ("1 add a/x", "2 take a/x", "2 rename a/x b/x", "2 rename b/x a/x", "3 add a/y", "02 add a/x", "", "x"):
+        wrong = ["1 add a/x", "2 take a/x", "2 rename a/x b/x", "2 rename b/x a/x", "3 add a/y", "02 add a/x", "", "x"]
+        for line in wrong:
             self.check_line(read_story, text + "\n" + line, 4)
         self.assertEqual(len(read_story(text + "\n2 add a/x")), 3)
 
@@ -340,7 +352,8 @@ class MutationsTest(TextCase):
         taken = 0
         for seed in range(60):
             _, story, log = chance_case(seed, chance, 4)
-            for read, write, text in ((read_log, write_log, write_log(log)), (read_story, write_story, write_story(story))):
+            pairs = [(read_log, write_log, write_log(log)), (read_story, write_story, write_story(story))]
+            for read, write, text in pairs:
                 for _ in range(40):
                     at = chance.randrange(len(text) + 1)
                     more = chance.choice(["", "", " ", "\n", "a", "z", "0", "1", "/", "=", ".", "-", "+", "&", "x"])

@@ -120,7 +120,8 @@ class TimesTest(Case):
         answers = [(place, place[1] == "one") for place in places]
         looks = [Ask(answers[8 * k:8 * k + 8]) for k in range(7)]
         last = [Ask([(place, not stands) for place, stands in look.answers]) for look in looks]
-        log = Log([looks[2 * k:2 * k + 2] for k in range(4)] + [[], [], [], []] + [last[2 * k:2 * k + 2] for k in range(4)])
+        before, behind = [[row[2 * k:2 * k + 2] for k in range(4)] for row in (looks, last)]
+        log = Log(before + [[], [], [], []] + behind)
         self.assertEqual((len(log), len(demands(log))), (12, 52))
         wanted = [((letter, "one"), (letter, "two")) for letter in ALPHABET]
         self.assertEqual(self.within(20, sure_renamings, log, rules=Rules(across=False)), wanted)
